@@ -82,7 +82,8 @@ func (r *reader) count(most uint64) uint64 { return min(r.number(), most) }
 
 // text takes a text that stands behind how many bytes it has, or as much of it as there is.
 func (r *reader) text() string {
-	size := min(r.number(), uint64(len(r.rest)))
+	told := r.number() // taken ahead, by itself: rest is another one behind it
+	size := min(told, uint64(len(r.rest)))
 	text := r.rest[:size]
 	r.rest = r.rest[size:]
 	return text

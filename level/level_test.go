@@ -892,6 +892,23 @@ func TestDecodeRefuses(t *testing.T) {
 	}
 }
 
+// TestDecodeOfTextsThatAreCut: the bytes end within a table's First, or its Last, whatever size is told of it.
+func TestDecodeOfTextsThatAreCut(t *testing.T) {
+	for _, s := range []string{
+		"\x05\x00\x00\x00\x01\x01\x01\x05\x61",
+		"\x05\x00\x00\x00\x01\x01\x01\x01\x61\x05\x61",
+	} {
+		for n := range 8 {
+			last := len(s) - 2
+			cut := s[:last] + string([]byte{byte(n)}) + s[last+1:]
+			if e, f := Decode(cut); f != api.ErrForm || !sameEdit(e, api.Edit{}) {
+				t.Errorf("Decode(%x): %v, %d", cut, e, f)
+			}
+			checkDecode(t, cut)
+		}
+	}
+}
+
 // Every cut, and every byte that is another one, is left out, or doubled.
 func TestDecodeOfChangedBytes(t *testing.T) {
 	for _, e := range edits() {
