@@ -114,6 +114,7 @@ func scenes() []scene {
 
 // TestEachStep lets the disk die at each step; behind crashes, at one more step of an opening too, both are opened.
 func TestEachStep(t *testing.T) {
+	t.Parallel()
 	for _, c := range scenes() {
 		s := script(1)
 		for fuse, dead := 0, true; dead; fuse++ {
@@ -140,6 +141,7 @@ func TestEachStep(t *testing.T) {
 
 // TestEachQuota lets the disk be full, from where nothing has room to where all has.
 func TestEachQuota(t *testing.T) {
+	t.Parallel()
 	for _, c := range scenes() {
 		full := true
 		for room := 0; full; room += 1 + room/6 {
@@ -159,6 +161,7 @@ func TestEachQuota(t *testing.T) {
 
 // TestEachName leaves so many names free; where there are too few, it goes on as soon as there are more.
 func TestEachName(t *testing.T) {
+	t.Parallel()
 	for _, c := range scenes() {
 		for free := range 8 {
 			w := newScene(t, c)
@@ -332,6 +335,7 @@ func newStore(t *testing.T, seed int) *store {
 }
 
 func TestItIsAMapBehindCrashes(t *testing.T) {
+	t.Parallel()
 	for n := range 120 {
 		r := newStore(t, n)
 		for range 80 {
@@ -350,6 +354,7 @@ func TestItIsAMapBehindCrashes(t *testing.T) {
 
 // TestItIsAMap: without crashes what was told OK is all there is, whatever is flushed and merged.
 func TestItIsAMap(t *testing.T) {
+	t.Parallel()
 	for n := range 30 {
 		r := newStore(t, n)
 		for range 150 {

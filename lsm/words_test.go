@@ -565,6 +565,7 @@ func (w *both) crash(s *script) {
 
 // TestByWords does one thing after the other to a store, and to one by the words.
 func TestByWords(t *testing.T) {
+	t.Parallel()
 	for n := range 40 {
 		s := script(n)
 		w := newBoth(t)
